@@ -10,12 +10,14 @@ import (
 var layerWays = map[string]string{
 	"round": "function-field",
 	"sat":   "variadic",
+	"cx":    "generic-function",
 }
 
 // wayShown tells of each way whether a piece of a program shows it.
 var wayShown = map[string]func(n ast.Node) bool{
-	"function-field": hasFunctionField,
-	"variadic":       isVariadic,
+	"function-field":   hasFunctionField,
+	"variadic":         isVariadic,
+	"generic-function": isGenericFunction,
 }
 
 func hasFunctionField(n ast.Node) bool {
@@ -38,6 +40,11 @@ func isVariadic(n ast.Node) bool {
 	}
 	_, ok = f.Params.List[len(f.Params.List)-1].Type.(*ast.Ellipsis)
 	return ok
+}
+
+func isGenericFunction(n ast.Node) bool {
+	f, ok := n.(*ast.FuncDecl)
+	return ok && f.Type.TypeParams != nil
 }
 
 // The section 'Ways': each layer that is built leans on those that it names.
