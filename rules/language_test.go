@@ -60,30 +60,39 @@ type source struct {
 func eachSource(t *testing.T, do func(layer string, s source)) {
 	t.Helper()
 	for layer := range layerCalls {
-		paths, err := filepath.Glob(filepath.Join("..", layer, "*"))
-		if err != nil || len(paths) == 0 {
-			t.Errorf("layer %s has no files (%v)", layer, err)
-		}
-		for _, path := range paths {
-			if strings.HasSuffix(path, "_test.go") {
-				continue
-			}
-			if !strings.HasSuffix(path, ".go") {
-				t.Errorf("%s is no Go file", path)
-				continue
-			}
-			do(layer, readSource(t, path))
+		for _, s := range sourcesOf(t, layer, token.NewFileSet()) {
+			do(layer, s)
 		}
 	}
 }
 
-func readSource(t *testing.T, path string) source {
+// sourcesOf are the files of a package of the project that are no tests.
+func sourcesOf(t *testing.T, folder string, set *token.FileSet) []source {
+	t.Helper()
+	paths, err := filepath.Glob(filepath.Join("..", folder, "*"))
+	if err != nil || len(paths) == 0 {
+		t.Errorf("folder %s has no files (%v)", folder, err)
+	}
+	var all []source
+	for _, path := range paths {
+		if strings.HasSuffix(path, "_test.go") {
+			continue
+		}
+		if !strings.HasSuffix(path, ".go") {
+			t.Errorf("%s is no Go file", path)
+			continue
+		}
+		all = append(all, readSource(t, path, set))
+	}
+	return all
+}
+
+func readSource(t *testing.T, path string, set *token.FileSet) source {
 	t.Helper()
 	text, err := os.ReadFile(path)
 	if err != nil {
 		t.Fatal(err)
 	}
-	set := token.NewFileSet()
 	file, err := parser.ParseFile(set, path, text, parser.ParseComments)
 	if err != nil {
 		t.Fatal(err)

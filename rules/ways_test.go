@@ -2,6 +2,7 @@ package rules
 
 import (
 	"go/ast"
+	"go/types"
 	"strings"
 	"testing"
 )
@@ -11,16 +12,18 @@ var layerWays = map[string]string{
 	"round": "function-field",
 	"sat":   "variadic",
 	"cx":    "generic-function",
+	"arc":   "range-function",
 }
 
-// wayShown tells of each way whether a piece of a program shows it.
-var wayShown = map[string]func(n ast.Node) bool{
+// wayShown tells of each way whether a piece of a program shows it; the types tell it, where its form does not.
+var wayShown = map[string]func(n ast.Node, known *types.Info) bool{
 	"function-field":   hasFunctionField,
 	"variadic":         isVariadic,
 	"generic-function": isGenericFunction,
+	"range-function":   isRangeOverFunction,
 }
 
-func hasFunctionField(n ast.Node) bool {
+func hasFunctionField(n ast.Node, _ *types.Info) bool {
 	s, ok := n.(*ast.StructType)
 	if !ok {
 		return false
@@ -33,7 +36,7 @@ func hasFunctionField(n ast.Node) bool {
 	return false
 }
 
-func isVariadic(n ast.Node) bool {
+func isVariadic(n ast.Node, _ *types.Info) bool {
 	f, ok := n.(*ast.FuncType)
 	if !ok || len(f.Params.List) == 0 {
 		return false
@@ -42,31 +45,43 @@ func isVariadic(n ast.Node) bool {
 	return ok
 }
 
-func isGenericFunction(n ast.Node) bool {
+func isGenericFunction(n ast.Node, _ *types.Info) bool {
 	f, ok := n.(*ast.FuncDecl)
 	return ok && f.Type.TypeParams != nil
 }
 
+func isRangeOverFunction(n ast.Node, known *types.Info) bool {
+	r, ok := n.(*ast.RangeStmt)
+	if !ok {
+		return false
+	}
+	_, ok = known.TypeOf(r.X).Underlying().(*types.Signature)
+	return ok
+}
+
 // The section 'Ways': each layer that is built leans on those that it names.
 func TestWays(t *testing.T) {
-	shown := map[string]int{}
-	eachSource(t, func(layer string, s source) {
-		for way, shows := range wayShown {
-			ast.Inspect(s.file, func(n ast.Node) bool {
-				if n != nil && shows(n) {
-					shown[layer+" "+way]++
-				}
-				return true
-			})
-		}
-	})
+	p := newProject(t)
 	for layer, ways := range layerWays {
+		files := p.filesOf(layer)
 		for _, way := range strings.Fields(ways) {
 			if wayShown[way] == nil {
 				t.Errorf("nothing tells whether layer %s has the way %s", layer, way)
-			} else if shown[layer+" "+way] == 0 {
+			} else if !p.shows(files, wayShown[way]) {
 				t.Errorf("layer %s has nothing of the way %s", layer, way)
 			}
 		}
 	}
+}
+
+// shows tells whether some piece of the files shows a way.
+func (p project) shows(files []*ast.File, way func(n ast.Node, known *types.Info) bool) bool {
+	shown := false
+	for _, f := range files {
+		ast.Inspect(f, func(n ast.Node) bool {
+			shown = shown || n != nil && way(n, p.types)
+			return !shown
+		})
+	}
+	return shown
 }
