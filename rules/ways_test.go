@@ -13,6 +13,7 @@ var layerWays = map[string]string{
 	"sat":   "variadic",
 	"cx":    "generic-function",
 	"arc":   "range-function",
+	"gain":  "array",
 }
 
 // wayShown tells of each way whether a piece of a program shows it; the types tell it, where its form does not.
@@ -21,6 +22,7 @@ var wayShown = map[string]func(n ast.Node, known *types.Info) bool{
 	"variadic":         isVariadic,
 	"generic-function": isGenericFunction,
 	"range-function":   isRangeOverFunction,
+	"array":            isArray,
 }
 
 func hasFunctionField(n ast.Node, _ *types.Info) bool {
@@ -57,6 +59,11 @@ func isRangeOverFunction(n ast.Node, known *types.Info) bool {
 	}
 	_, ok = known.TypeOf(r.X).Underlying().(*types.Signature)
 	return ok
+}
+
+func isArray(n ast.Node, _ *types.Info) bool {
+	a, ok := n.(*ast.ArrayType)
+	return ok && a.Len != nil
 }
 
 // The section 'Ways': each layer that is built leans on those that it names.
