@@ -9,11 +9,12 @@ import (
 
 // layerWays are the layers built so far, and beside each the ways of the language that the document's section 'Ways' asks for.
 var layerWays = map[string]string{
-	"round": "function-field",
-	"sat":   "variadic",
-	"cx":    "generic-function",
-	"arc":   "range-function",
-	"gain":  "array",
+	"round":  "function-field",
+	"sat":    "variadic",
+	"cx":     "generic-function",
+	"arc":    "range-function",
+	"gain":   "array",
+	"circle": "closure",
 }
 
 // wayShown tells of each way whether a piece of a program shows it; the types tell it, where its form does not.
@@ -23,6 +24,7 @@ var wayShown = map[string]func(n ast.Node, known *types.Info) bool{
 	"generic-function": isGenericFunction,
 	"range-function":   isRangeOverFunction,
 	"array":            isArray,
+	"closure":          isClosure,
 }
 
 func hasFunctionField(n ast.Node, _ *types.Info) bool {
@@ -64,6 +66,31 @@ func isRangeOverFunction(n ast.Node, known *types.Info) bool {
 func isArray(n ast.Node, _ *types.Info) bool {
 	a, ok := n.(*ast.ArrayType)
 	return ok && a.Len != nil
+}
+
+// isClosure finds a function that holds on to a variable of the one around it: one that does not is no closure of anything.
+func isClosure(n ast.Node, known *types.Info) bool {
+	f, ok := n.(*ast.FuncLit)
+	if !ok {
+		return false
+	}
+	held := false
+	ast.Inspect(f.Body, func(n ast.Node) bool {
+		if name, ok := n.(*ast.Ident); ok {
+			held = held || isOfFunctionAround(known.Uses[name], f)
+		}
+		return !held
+	})
+	return held
+}
+
+// isOfFunctionAround tells whether what is named is a variable from outside f that is not of a whole package.
+func isOfFunctionAround(named types.Object, f *ast.FuncLit) bool {
+	v, ok := named.(*types.Var)
+	if !ok || v.IsField() || v.Pkg() == nil || v.Parent() == v.Pkg().Scope() {
+		return false
+	}
+	return v.Pos() < f.Pos() || v.Pos() >= f.End()
 }
 
 // The section 'Ways': each layer that is built leans on those that it names.
