@@ -15,6 +15,7 @@ var layerWays = map[string]string{
 	"arc":    "range-function",
 	"gain":   "array",
 	"circle": "closure",
+	"roots":  "generic-function",
 }
 
 // wayShown tells of each way whether a piece of a program shows it; the types tell it, where its form does not.
