@@ -16,6 +16,7 @@ var layerWays = map[string]string{
 	"gain":   "array",
 	"circle": "closure",
 	"roots":  "generic-function",
+	"flip":   "range-integer copy",
 }
 
 // wayShown tells of each way whether a piece of a program shows it; the types tell it, where its form does not.
@@ -26,6 +27,8 @@ var wayShown = map[string]func(n ast.Node, known *types.Info) bool{
 	"range-function":   isRangeOverFunction,
 	"array":            isArray,
 	"closure":          isClosure,
+	"range-integer":    isRangeOverNumber,
+	"copy":             isCopy,
 }
 
 func hasFunctionField(n ast.Node, _ *types.Info) bool {
@@ -62,6 +65,24 @@ func isRangeOverFunction(n ast.Node, known *types.Info) bool {
 	}
 	_, ok = known.TypeOf(r.X).Underlying().(*types.Signature)
 	return ok
+}
+
+func isRangeOverNumber(n ast.Node, known *types.Info) bool {
+	r, ok := n.(*ast.RangeStmt)
+	if !ok {
+		return false
+	}
+	t, ok := known.TypeOf(r.X).Underlying().(*types.Basic)
+	return ok && t.Info()&types.IsInteger != 0
+}
+
+func isCopy(n ast.Node, known *types.Info) bool {
+	c, ok := n.(*ast.CallExpr)
+	if !ok {
+		return false
+	}
+	name, ok := c.Fun.(*ast.Ident)
+	return ok && known.Uses[name] == types.Universe.Lookup("copy")
 }
 
 func isArray(n ast.Node, _ *types.Info) bool {
