@@ -17,6 +17,7 @@ var layerWays = map[string]string{
 	"circle": "closure",
 	"roots":  "generic-function",
 	"flip":   "range-integer copy",
+	"scan":   "variadic",
 }
 
 // wayShown tells of each way whether a piece of a program shows it; the types tell it, where its form does not.
