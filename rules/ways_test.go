@@ -18,6 +18,7 @@ var layerWays = map[string]string{
 	"roots":  "generic-function",
 	"flip":   "range-integer copy",
 	"scan":   "variadic",
+	"two":    "range-function",
 }
 
 // wayShown tells of each way whether a piece of a program shows it; the types tell it, where its form does not.
