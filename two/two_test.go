@@ -428,9 +428,10 @@ func TestPassInAllBits(t *testing.T) {
 			}
 			x := spread(n, bits+s, farthest)
 			for _, h := range halves(n) {
-				inverse := (bits+s+h)%2 == 0
-				if y := pass(t, x, w, h, bits, s, mode, inverse); !slices.Equal(y, passByWords(x, w, h, bits, s, mode, inverse)) {
-					t.Fatalf("Pass of %v, halves %d, %d bits, by %d, mode %d, inverse %t, is %v", x, h, bits, s, mode, inverse, y)
+				for _, inverse := range []bool{false, true} {
+					if y := pass(t, x, w, h, bits, s, mode, inverse); !slices.Equal(y, passByWords(x, w, h, bits, s, mode, inverse)) {
+						t.Fatalf("Pass of %v, halves %d, %d bits, by %d, mode %d, inverse %t, is %v", x, h, bits, s, mode, inverse, y)
+					}
 				}
 			}
 		}
