@@ -19,6 +19,7 @@ var layerWays = map[string]string{
 	"flip":   "range-integer copy",
 	"scan":   "variadic",
 	"two":    "range-function",
+	"four":   "array three-index",
 }
 
 // wayShown tells of each way whether a piece of a program shows it; the types tell it, where its form does not.
@@ -31,6 +32,7 @@ var wayShown = map[string]func(n ast.Node, known *types.Info) bool{
 	"closure":          isClosure,
 	"range-integer":    isRangeOverNumber,
 	"copy":             isCopy,
+	"three-index":      isCutTwice,
 }
 
 func hasFunctionField(n ast.Node, _ *types.Info) bool {
@@ -90,6 +92,12 @@ func isCopy(n ast.Node, known *types.Info) bool {
 func isArray(n ast.Node, _ *types.Info) bool {
 	a, ok := n.(*ast.ArrayType)
 	return ok && a.Len != nil
+}
+
+// isCutTwice finds a slice that has both its length and its room cut.
+func isCutTwice(n ast.Node, _ *types.Info) bool {
+	s, ok := n.(*ast.SliceExpr)
+	return ok && s.Slice3
 }
 
 // isClosure finds a function that holds on to a variable of the one around it: one that does not is no closure of anything.
