@@ -591,7 +591,7 @@ func TestPassByWords(t *testing.T) {
 // P11.2: so are passes in all bits that may be, of roots that are those of 1, too.
 func TestPassInAllBits(t *testing.T) {
 	scalings(func(bits, s, mode int) {
-		for k, n := range lengths {
+		for _, n := range lengths {
 			log, _ := flip.Log(n)
 			w, e := roots.Table(log, bits)
 			if e != api.OK {
@@ -599,9 +599,10 @@ func TestPassInAllBits(t *testing.T) {
 			}
 			x := spread(n, bits+s, farthest)
 			for _, h := range quarters(n) {
-				inverse := (k+bits+s+mode+h)%2 == 0
-				if y := pass(t, x, w, h, bits, s, mode, inverse); !slices.Equal(y, passByWords(x, w, h, bits, s, mode, inverse)) {
-					t.Fatalf("Pass of %v, quarters %d, %d bits, by %d, mode %d, inverse %t, is %v", x, h, bits, s, mode, inverse, y)
+				for _, inverse := range []bool{false, true} {
+					if y := pass(t, x, w, h, bits, s, mode, inverse); !slices.Equal(y, passByWords(x, w, h, bits, s, mode, inverse)) {
+						t.Fatalf("Pass of %v, quarters %d, %d bits, by %d, mode %d, inverse %t, is %v", x, h, bits, s, mode, inverse, y)
+					}
 				}
 			}
 		}
