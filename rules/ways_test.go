@@ -20,6 +20,7 @@ var layerWays = map[string]string{
 	"scan":   "variadic",
 	"two":    "range-function",
 	"four":   "array three-index",
+	"split":  "range-function",
 }
 
 // wayShown tells of each way whether a piece of a program shows it; the types tell it, where its form does not.
