@@ -21,6 +21,7 @@ var layerWays = map[string]string{
 	"two":    "range-function",
 	"four":   "array three-index",
 	"split":  "range-function",
+	"plan":   "range-function",
 }
 
 // wayShown tells of each way whether a piece of a program shows it; the types tell it, where its form does not.
