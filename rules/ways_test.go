@@ -22,6 +22,7 @@ var layerWays = map[string]string{
 	"four":   "array three-index",
 	"split":  "range-function",
 	"plan":   "range-function",
+	"budget": "map struct-compared",
 }
 
 // wayShown tells of each way whether a piece of a program shows it; the types tell it, where its form does not.
@@ -35,6 +36,8 @@ var wayShown = map[string]func(n ast.Node, known *types.Info) bool{
 	"range-integer":    isRangeOverNumber,
 	"copy":             isCopy,
 	"three-index":      isCutTwice,
+	"map":              isMap,
+	"struct-compared":  isAskedByStruct,
 }
 
 func hasFunctionField(n ast.Node, _ *types.Info) bool {
@@ -100,6 +103,30 @@ func isArray(n ast.Node, _ *types.Info) bool {
 func isCutTwice(n ast.Node, _ *types.Info) bool {
 	s, ok := n.(*ast.SliceExpr)
 	return ok && s.Slice3
+}
+
+func isMap(n ast.Node, _ *types.Info) bool {
+	_, ok := n.(*ast.MapType)
+	return ok
+}
+
+// isAskedByStruct finds a map that is asked by a struct: it holds that against its keys.
+func isAskedByStruct(n ast.Node, known *types.Info) bool {
+	i, ok := n.(*ast.IndexExpr)
+	if !ok {
+		return false
+	}
+	// What is asked may be a generic type's name, which has no type by itself.
+	asked := known.TypeOf(i.X)
+	if asked == nil {
+		return false
+	}
+	m, ok := asked.Underlying().(*types.Map)
+	if !ok {
+		return false
+	}
+	_, ok = m.Key().Underlying().(*types.Struct)
+	return ok
 }
 
 // isClosure finds a function that holds on to a variable of the one around it: one that does not is no closure of anything.
