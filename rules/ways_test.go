@@ -23,6 +23,7 @@ var layerWays = map[string]string{
 	"split":  "range-function",
 	"plan":   "range-function",
 	"budget": "map struct-compared",
+	"fft":    "interface interface-call map",
 }
 
 // wayShown tells of each way whether a piece of a program shows it; the types tell it, where its form does not.
@@ -38,6 +39,8 @@ var wayShown = map[string]func(n ast.Node, known *types.Info) bool{
 	"three-index":      isCutTwice,
 	"map":              isMap,
 	"struct-compared":  isAskedByStruct,
+	"interface":        isInterface,
+	"interface-call":   isInterfaceCall,
 }
 
 func hasFunctionField(n ast.Node, _ *types.Info) bool {
@@ -127,6 +130,27 @@ func isAskedByStruct(n ast.Node, known *types.Info) bool {
 	}
 	_, ok = m.Key().Underlying().(*types.Struct)
 	return ok
+}
+
+// isInterface finds an interface that asks for methods: one that asks for none tells nothing of what has it.
+func isInterface(n ast.Node, _ *types.Info) bool {
+	i, ok := n.(*ast.InterfaceType)
+	return ok && i.Methods.NumFields() != 0
+}
+
+// isInterfaceCall finds a method that is called of an interface, so that its type is told only when the program runs.
+func isInterfaceCall(n ast.Node, known *types.Info) bool {
+	c, ok := n.(*ast.CallExpr)
+	if !ok {
+		return false
+	}
+	s, ok := c.Fun.(*ast.SelectorExpr)
+	if !ok {
+		return false
+	}
+	// What stands ahead of the name may be a package, which has no type by itself.
+	of := known.TypeOf(s.X)
+	return of != nil && types.IsInterface(of)
 }
 
 // isClosure finds a function that holds on to a variable of the one around it: one that does not is no closure of anything.
