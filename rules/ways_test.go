@@ -24,6 +24,7 @@ var layerWays = map[string]string{
 	"plan":   "range-function",
 	"budget": "map struct-compared",
 	"fft":    "interface interface-call map",
+	"dft":    "array",
 }
 
 // wayShown tells of each way whether a piece of a program shows it; the types tell it, where its form does not.
