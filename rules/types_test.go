@@ -24,7 +24,7 @@ func newProject(t *testing.T) project {
 	return project{
 		t:       t,
 		set:     set,
-		types:   &types.Info{Types: map[ast.Expr]types.TypeAndValue{}, Uses: map[*ast.Ident]types.Object{}},
+		types:   &types.Info{Types: map[ast.Expr]types.TypeAndValue{}, Uses: map[*ast.Ident]types.Object{}, Selections: map[*ast.SelectorExpr]*types.Selection{}},
 		library: importer.ForCompiler(set, "source", nil),
 		files:   map[string][]*ast.File{},
 		read:    map[string]*types.Package{},

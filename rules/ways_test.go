@@ -3,6 +3,7 @@ package rules
 import (
 	"go/ast"
 	"go/types"
+	"slices"
 	"strings"
 	"testing"
 )
@@ -25,23 +26,27 @@ var layerWays = map[string]string{
 	"budget": "map struct-compared",
 	"fft":    "interface interface-call map",
 	"dft":    "array",
+	"near":   "embedding promoted method-expression",
 }
 
 // wayShown tells of each way whether a piece of a program shows it; the types tell it, where its form does not.
 var wayShown = map[string]func(n ast.Node, known *types.Info) bool{
-	"function-field":   hasFunctionField,
-	"variadic":         isVariadic,
-	"generic-function": isGenericFunction,
-	"range-function":   isRangeOverFunction,
-	"array":            isArray,
-	"closure":          isClosure,
-	"range-integer":    isRangeOverNumber,
-	"copy":             isCopy,
-	"three-index":      isCutTwice,
-	"map":              isMap,
-	"struct-compared":  isAskedByStruct,
-	"interface":        isInterface,
-	"interface-call":   isInterfaceCall,
+	"function-field":    hasFunctionField,
+	"variadic":          isVariadic,
+	"generic-function":  isGenericFunction,
+	"range-function":    isRangeOverFunction,
+	"array":             isArray,
+	"closure":           isClosure,
+	"range-integer":     isRangeOverNumber,
+	"copy":              isCopy,
+	"three-index":       isCutTwice,
+	"map":               isMap,
+	"struct-compared":   isAskedByStruct,
+	"interface":         isInterface,
+	"interface-call":    isInterfaceCall,
+	"embedding":         isEmbedding,
+	"promoted":          isPromoted,
+	"method-expression": isMethodExpression,
 }
 
 func hasFunctionField(n ast.Node, _ *types.Info) bool {
@@ -152,6 +157,32 @@ func isInterfaceCall(n ast.Node, known *types.Info) bool {
 	// What stands ahead of the name may be a package, which has no type by itself.
 	of := known.TypeOf(s.X)
 	return of != nil && types.IsInterface(of)
+}
+
+// isEmbedding finds a struct with a part that has no name but its type's.
+func isEmbedding(n ast.Node, _ *types.Info) bool {
+	s, ok := n.(*ast.StructType)
+	return ok && slices.ContainsFunc(s.Fields.List, func(f *ast.Field) bool { return len(f.Names) == 0 })
+}
+
+// isPromoted finds what is asked of a struct, and belongs to a part that it embeds.
+func isPromoted(n ast.Node, known *types.Info) bool {
+	s, ok := n.(*ast.SelectorExpr)
+	if !ok {
+		return false
+	}
+	asked := known.Selections[s]
+	return asked != nil && len(asked.Index()) > 1
+}
+
+// isMethodExpression finds a method that is asked of its type, and so is a function of what it is to be called of.
+func isMethodExpression(n ast.Node, known *types.Info) bool {
+	s, ok := n.(*ast.SelectorExpr)
+	if !ok {
+		return false
+	}
+	asked := known.Selections[s]
+	return asked != nil && asked.Kind() == types.MethodExpr
 }
 
 // isClosure finds a function that holds on to a variable of the one around it: one that does not is no closure of anything.
