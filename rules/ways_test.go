@@ -27,6 +27,7 @@ var layerWays = map[string]string{
 	"fft":    "interface interface-call map",
 	"dft":    "array",
 	"near":   "embedding promoted method-expression",
+	"real":   "variadic",
 }
 
 // wayShown tells of each way whether a piece of a program shows it; the types tell it, where its form does not.
