@@ -28,6 +28,7 @@ var layerWays = map[string]string{
 	"dft":    "array",
 	"near":   "embedding promoted method-expression",
 	"real":   "variadic",
+	"window": "map closure",
 }
 
 // wayShown tells of each way whether a piece of a program shows it; the types tell it, where its form does not.
