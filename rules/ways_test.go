@@ -29,6 +29,7 @@ var layerWays = map[string]string{
 	"near":   "embedding promoted method-expression",
 	"real":   "variadic",
 	"window": "map closure",
+	"power":  "range-function array",
 }
 
 // wayShown tells of each way whether a piece of a program shows it; the types tell it, where its form does not.
